@@ -1,0 +1,1 @@
+"""Villages on roads that never go round."""
