@@ -74,5 +74,12 @@ def table_of(tree):
     return table
 
 
+def lists_up_to(most, values):
+    """Every list of up to so many of these values, in any order and with some told twice."""
+    for many in range(most + 1):
+        for told in product(values, repeat=many):
+            yield list(told)
+
+
 def rows_of(tree):
     return (tree.size, tree.roads())

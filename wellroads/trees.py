@@ -6,11 +6,17 @@ MOST_VILLAGES = 12
 MOST_LENGTH = 1000000
 
 
-def is_whole(value, least, most):
+def is_number(value):
     # Python counts True and False among its whole numbers, the program doesn't.
-    if not isinstance(value, int) or isinstance(value, bool):
-        return False
-    return least <= value <= most
+    return isinstance(value, int) and not isinstance(value, bool)
+
+
+def is_whole(value, least, most):
+    return is_number(value) and least <= value <= most
+
+
+def are_below(values, many):
+    return isinstance(values, list) and all([is_whole(value, 0, many - 1) for value in values])
 
 
 def is_road(road, villages):
